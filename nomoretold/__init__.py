@@ -1,0 +1,1 @@
+"""What two people can find out together, telling one another nothing more."""

@@ -1,0 +1,97 @@
+"""The form of the package's files, as far as it can be read off them: the interface, sizes, imports."""
+
+import ast
+import importlib
+import inspect
+import re
+import unittest
+from pathlib import Path
+
+PACKAGE = Path(__file__).resolve().parent.parent / "nomoretold"
+FILES = sorted(PACKAGE.rglob("*.py"))
+
+# The functions of the interface that are there, by module, with their arguments.
+INTERFACE = {
+    "tables": {
+        "is_table": ["value"], "answers_in": ["table"], "turned": ["table"], "part_table": ["table", "part"],
+        "row_classes": ["table", "part"], "column_classes": ["table", "part"], "is_knotted": ["table", "part"],
+    },
+    "knots": {"can_be_told": ["table"], "least_knot": ["table"], "stuck": ["table"]},
+}
+
+LIBRARY = {
+    "heapq": {"heappush", "heappop", "heapify", "heapreplace", "heappushpop"},
+    "math": {"gcd", "lcm", "isqrt", "comb", "perm", "factorial"},
+    "itertools": {
+        "product", "combinations", "permutations", "chain", "accumulate", "pairwise", "islice", "zip_longest",
+    },
+    "collections": {"defaultdict", "deque"},
+    "__future__": {"annotations"},
+}
+
+
+def nodes(file):
+    return list(ast.walk(ast.parse(file.read_text(encoding="utf-8"))))
+
+
+class Interface(unittest.TestCase):
+    def test_functions_are_defined_in_their_file(self):
+        for module, functions in INTERFACE.items():
+            names = vars(importlib.import_module(f"nomoretold.{module}"))
+            for name, arguments in functions.items():
+                with self.subTest(name):
+                    self.assertEqual(names[name].__module__, f"nomoretold.{module}")
+                    self.assertEqual(list(inspect.signature(names[name]).parameters), arguments)
+
+
+class Form(unittest.TestCase):
+    def test_the_folder_holds_python_files_alone(self):
+        others = [
+            path for path in PACKAGE.rglob("*")
+            if path.is_file() and path.suffix != ".py" and path.parent.name != "__pycache__"
+        ]
+        self.assertEqual(others, [])
+        for file in FILES:
+            self.assertRegex(file.name, r"\A(__init__|__main__|[a-z][a-z0-9_]*)\.py\Z")
+            self.assertTrue((file.parent / "__init__.py").is_file())
+
+    def test_sizes(self):
+        for file in FILES:
+            lines = file.read_text(encoding="utf-8").split("\n")
+            with self.subTest(file.name):
+                self.assertLessEqual(len(lines), 399)
+                self.assertLessEqual(max(map(len, lines)), 120)
+            for node in nodes(file):
+                if isinstance(node, ast.FunctionDef):
+                    with self.subTest(node.name):
+                        self.assertLessEqual(node.end_lineno - node.lineno + 1, 40)
+
+    def test_signs(self):
+        for file in FILES:
+            with self.subTest(file.name):
+                self.assertRegex(file.read_bytes(), rb"\A[ -~\n]*\Z")
+
+    def test_imports(self):
+        for file in FILES:
+            for node in nodes(file):
+                with self.subTest(file.name):
+                    self.assertFalse(isinstance(node, ast.Import) and file.name != "__main__.py")
+                    if isinstance(node, ast.ImportFrom):
+                        names = {name.name for name in node.names}
+                        own = re.fullmatch(r"nomoretold(\.[a-z][a-z0-9_]*)+", node.module or "")
+                        self.assertEqual(node.level, 0)
+                        self.assertNotIn("*", names)
+                        self.assertTrue(own or names <= LIBRARY.get(node.module, set()))
+
+    def test_no_floats_and_no_foreign_statements(self):
+        barred = (ast.Div, ast.AsyncFunctionDef, ast.Await, ast.AsyncFor, ast.AsyncWith)
+        for file in FILES:
+            for node in nodes(file):
+                with self.subTest(file.name, line=getattr(node, "lineno", None)):
+                    self.assertNotIsInstance(node, barred)
+                    if isinstance(node, ast.Constant):
+                        self.assertNotIsInstance(node.value, (float, complex))
+
+
+if __name__ == "__main__":
+    unittest.main()
