@@ -1,5 +1,6 @@
 """Knotted parts of tables, and going down by classes."""
 
+from nomoretold.errors import Knotted
 from nomoretold.tables import answers_among, columns_together, is_knot, require_table
 from nomoretold.tables import rows_together, whole_part
 
@@ -9,6 +10,13 @@ def can_be_told(table):
     # The rows of a knotted part hang together in every part around it, and its
     # columns, too: so going down never parts it, and ends at a stuck part.
     return stuck(table) is None
+
+
+def require_told(table):
+    """Raise BadTable unless the value is a table, Knotted if it cannot be told."""
+    knot = least_knot(table)
+    if knot is not None:
+        raise Knotted(knot)
 
 
 def least_knot(table):
