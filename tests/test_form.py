@@ -1,6 +1,7 @@
 """The form of the package's files, as far as it can be read off them: the interface, sizes, imports."""
 
 import ast
+import builtins
 import importlib
 import inspect
 import re
@@ -17,7 +18,36 @@ INTERFACE = {
         "row_classes": ["table", "part"], "column_classes": ["table", "part"], "is_knotted": ["table", "part"],
     },
     "knots": {"can_be_told": ["table"], "least_knot": ["table"], "stuck": ["table"]},
+    "talks": {
+        "is_talk": ["table", "value"], "size_of": ["table", "talk"], "chances": ["table", "talk", "x", "y"],
+        "heard": ["table", "talk", "way"], "comes_for": ["table", "talk", "way"],
+    },
+    "judging": {
+        "is_right": ["table", "talk"], "tells_no_more": ["table", "talk"],
+        "shows_fault": ["table", "talk", "value"], "judged": ["table", "talk"],
+    },
+    "classtalks": {"class_talk": ["table"], "turns": ["table", "talk"], "fewest_turns": ["table"]},
+    "fewwords": {
+        "fewest_words": ["table"], "word_talk": ["table"], "mean_words": ["table", "talk", "odds"],
+        "least_mean": ["table", "odds"],
+    },
+    "leaks": {"leak": ["table", "talk"], "least_leak": ["table"], "leak_talk": ["table"]},
+    "blurs": {"blurred": ["table", "lots"], "finest_blur": ["table"]},
+    "known": {
+        "richer": ["n"], "same": ["n"], "greater_one": ["n"], "sums": ["n", "m"], "first_price": ["n"],
+        "second_price": ["n"],
+    },
 }
+
+# The builtins that the package may name (L8), and the methods of builtin values (L25) that it uses.
+BUILTINS = set(
+    "len range enumerate zip min max sum abs sorted reversed int str bool list tuple dict set isinstance ord any all"
+    " divmod ValueError super".split()
+)
+METHODS = set(
+    "append clear copy count endswith extend find get index insert isdigit items join keys partition pop remove"
+    " replace reverse split startswith strip update values add discard __init__".split()
+)
 
 LIBRARY = {
     "heapq": {"heappush", "heappop", "heapify", "heapreplace", "heappushpop"},
@@ -82,6 +112,30 @@ class Form(unittest.TestCase):
                         self.assertEqual(node.level, 0)
                         self.assertNotIn("*", names)
                         self.assertTrue(own or names <= LIBRARY.get(node.module, set()))
+
+    def test_names_and_methods(self):
+        for file in FILES:
+            for node in nodes(file):
+                with self.subTest(file.name, line=getattr(node, "lineno", None)):
+                    if isinstance(node, ast.Name) and node.id in vars(builtins):
+                        self.assertIn(node.id, BUILTINS)
+                        self.assertIsInstance(node.ctx, ast.Load)
+                    if isinstance(node, ast.arg):
+                        self.assertNotIn(node.arg, vars(builtins))
+                    if isinstance(node, ast.Call) and isinstance(node.func, ast.Attribute):
+                        self.assertIn(node.func.attr, METHODS)
+
+    def test_no_local_name_is_that_of_an_import(self):
+        for file in FILES:
+            imported = {
+                name.name for node in nodes(file) if isinstance(node, ast.ImportFrom) for name in node.names
+            }
+            for node in nodes(file):
+                with self.subTest(file.name, line=getattr(node, "lineno", None)):
+                    if isinstance(node, ast.Name) and not isinstance(node.ctx, ast.Load):
+                        self.assertNotIn(node.id, imported)
+                    if isinstance(node, ast.arg):
+                        self.assertNotIn(node.arg, imported)
 
     def test_no_floats_and_no_foreign_statements(self):
         barred = (ast.Div, ast.AsyncFunctionDef, ast.Await, ast.AsyncFor, ast.AsyncWith)
