@@ -2,10 +2,19 @@
 
 from math import gcd
 
+FIGURES = "0123456789"
+
 
 def is_number(value, least, most):
     """Whether the value is an integer from least to most; a bool is none."""
     return isinstance(value, int) and not isinstance(value, bool) and least <= value <= most
+
+
+def are_numbers(value, many, most):
+    """Whether the value is a tuple of so many integers from 0 to most."""
+    if not isinstance(value, tuple) or len(value) != many:
+        return False
+    return all([is_number(number, 0, most) for number in value])
 
 
 def is_lot(value, many):
@@ -21,3 +30,30 @@ def ratio(top, low):
     """The ratio of two integers, low above 0: the pair of them without a common divisor."""
     common = gcd(top, low)
     return (top // common, low // common)
+
+
+def number_told(word, least, most):
+    """The number from least to most that the word tells in figures, without needless zeros; None."""
+    # A word with more figures than most is none, and might have more than Python reads at once.
+    if not 1 <= len(word) <= len(str(most)) or not all([sign in FIGURES for sign in word]):
+        return None
+    if word[0] == "0" and len(word) > 1:
+        return None
+    number = int(word)
+    return number if least <= number <= most else None
+
+
+def multiplied(numbers):
+    """The product of the numbers."""
+    whole = 1
+    for number in numbers:
+        whole = whole * number
+    return whole
+
+
+def rows_below(sizes):
+    """All rows of numbers, each below its size, ascending as tuples."""
+    rows = [()]
+    for size in sizes:
+        rows = [row + (number,) for row in rows for number in range(size)]
+    return rows

@@ -165,3 +165,28 @@ def error_of(call, *given):
     except Exception as error:
         return error
     return None
+
+
+def check_order(test, call, good, wrong):
+    """Each wrong value raises its error, whatever stands behind it.
+
+    good: arguments with which the call raises nothing. wrong: for each argument the pairs
+    of a wrong value and its error, as a class, or as a class and its field with a value.
+    """
+    for at, pairs in enumerate(wrong):
+        for value, told in pairs:
+            for behind in (good[at + 1:], [None] * (len(good) - at - 1), [value] * (len(good) - at - 1)):
+                with test.subTest(call.__name__, at=at):
+                    check_error(test, told, call, *good[:at], value, *behind)
+
+
+def check_error(test, told, call, *given):
+    """The call raises the error that is told: a class, or a tuple of a class, a field and its value."""
+    error = error_of(call, *given)
+    if isinstance(told, tuple):
+        test.assertIs(type(error), told[0])
+        test.assertEqual(vars(error), {told[1]: told[2]})
+        test.assertIs(type(getattr(error, told[1])), type(told[2]))
+    else:
+        test.assertIs(type(error), told)
+        test.assertEqual(vars(error), {})

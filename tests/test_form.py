@@ -37,6 +37,21 @@ INTERFACE = {
         "richer": ["n"], "same": ["n"], "greater_one": ["n"], "sums": ["n", "m"], "first_price": ["n"],
         "second_price": ["n"],
     },
+    "made": {
+        "side_by_side": ["one", "other"], "both": ["one", "other"], "product": ["one", "other"],
+        "count_told": ["rows", "columns", "many"],
+    },
+    "speeches": {
+        "check": ["text"], "talk_of": ["text"], "printed": ["text"], "speech": ["table", "talk"],
+        "judged_text": ["table", "text"],
+    },
+    "votes": {
+        "vote_of": ["vote", "things"], "greatest_lot": ["vote"], "own_bits": ["vote"], "odd_square": ["vote"],
+        "shows_odd": ["vote", "value"], "halves": ["vote", "square"], "square_table": ["vote", "square"],
+    },
+    "masks": {
+        "masked": ["bits", "coins"], "mask_views": ["bits", "lot"], "masks_tell_no_more": ["many", "lot"],
+    },
 }
 
 # The builtins that the package may name (L8), and the methods of builtin values (L25) that it uses.
@@ -46,7 +61,7 @@ BUILTINS = set(
 )
 METHODS = set(
     "append clear copy count endswith extend find get index insert isdigit items join keys partition pop remove"
-    " replace reverse split startswith strip update values add discard __init__".split()
+    " replace reverse setdefault split startswith strip update values add discard __init__".split()
 )
 
 LIBRARY = {
@@ -62,6 +77,12 @@ LIBRARY = {
 
 def nodes(file):
     return list(ast.walk(ast.parse(file.read_text(encoding="utf-8"))))
+
+
+def own_methods():
+    """The names of the methods that the package's classes define."""
+    classes = [node for file in FILES for node in nodes(file) if isinstance(node, ast.ClassDef)]
+    return {node.name for one in classes for node in one.body if isinstance(node, ast.FunctionDef)}
 
 
 class Interface(unittest.TestCase):
@@ -114,6 +135,7 @@ class Form(unittest.TestCase):
                         self.assertTrue(own or names <= LIBRARY.get(node.module, set()))
 
     def test_names_and_methods(self):
+        methods = METHODS | own_methods()
         for file in FILES:
             for node in nodes(file):
                 with self.subTest(file.name, line=getattr(node, "lineno", None)):
@@ -123,7 +145,7 @@ class Form(unittest.TestCase):
                     if isinstance(node, ast.arg):
                         self.assertNotIn(node.arg, vars(builtins))
                     if isinstance(node, ast.Call) and isinstance(node.func, ast.Attribute):
-                        self.assertIn(node.func.attr, METHODS)
+                        self.assertIn(node.func.attr, methods)
 
     def test_no_local_name_is_that_of_an_import(self):
         for file in FILES:
