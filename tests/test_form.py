@@ -52,6 +52,23 @@ INTERFACE = {
     "masks": {
         "masked": ["bits", "coins"], "mask_views": ["bits", "lot"], "masks_tell_no_more": ["many", "lot"],
     },
+    "shares": {
+        "dealt": ["p", "many", "secret", "coins"], "rebuilt": ["p", "points"],
+        "seen": ["p", "many", "size", "secret", "lot"],
+    },
+    "sheets": {
+        "sheet_value": ["p", "many", "sheet", "things"], "count_coins": ["many", "size", "sheet"],
+        "by_shares": ["p", "many", "size", "sheet", "things", "coins"],
+        "share_views": ["p", "many", "size", "sheet", "things", "lot"],
+    },
+    "desks": {"Desk": ["table"], "desk_of": ["text"]},
+    "tabletexts": {"write_table": ["table"], "read_table": ["text"]},
+}
+
+# The methods of the interface, all of them defined in the class itself.
+DESK_METHODS = {
+    "say": ["self", "who", "lot"], "part": ["self"], "answer": ["self"], "classes": ["self"], "leak": ["self"],
+    "is_kept": ["self"], "said": ["self"], "undo": ["self"], "text": ["self"],
 }
 
 # The builtins that the package may name (L8), and the methods of builtin values (L25) that it uses.
@@ -93,6 +110,12 @@ class Interface(unittest.TestCase):
                 with self.subTest(name):
                     self.assertEqual(names[name].__module__, f"nomoretold.{module}")
                     self.assertEqual(list(inspect.signature(names[name]).parameters), arguments)
+
+    def test_methods_are_defined_in_their_class(self):
+        own = vars(importlib.import_module("nomoretold.desks").Desk)
+        for name, arguments in DESK_METHODS.items():
+            with self.subTest(name):
+                self.assertEqual(list(inspect.signature(own[name]).parameters), arguments)
 
 
 class Form(unittest.TestCase):
